@@ -61,7 +61,7 @@ func checkKids(s *api.Store, b *api.Block) api.Errno {
 		if kid == 0 {
 			continue
 		}
-		if !There(s, kid) || at(s, kid).Level != b.Level-1 {
+		if !There(s, kid) || At(s, kid).Level != b.Level-1 {
 			return api.ErrWho
 		}
 		some = true
@@ -74,10 +74,11 @@ func checkKids(s *api.Store, b *api.Block) api.Errno {
 
 // There says whether a block that is not free has the address a.
 func There(s *api.Store, a int) bool {
-	return a >= 1 && a <= len(s.Blocks) && at(s, a).Refs != 0
+	return a >= 1 && a <= len(s.Blocks) && At(s, a).Refs != 0
 }
 
-func at(s *api.Store, a int) *api.Block { return &s.Blocks[a-1] }
+// At answers the block whose address is a, itself and not a copy; a is one that s has, or At panics.
+func At(s *api.Store, a int) *api.Block { return &s.Blocks[a-1] }
 
 // amongKids counts, block by block of a store whose blocks are right by themselves, how often it stands among Kids.
 func amongKids(s *api.Store) []int {
@@ -122,7 +123,7 @@ func Reach(s *api.Store, roots []int) ([]int, api.Errno) {
 				continue
 			}
 			seen[a]++
-			walk(at(s, a).Kids)
+			walk(At(s, a).Kids)
 		}
 	}
 	walk(roots)
@@ -160,7 +161,7 @@ func Make(s *api.Store, b api.Block) (int, api.Errno) {
 	s.Blocks[free] = copyBlock(b)
 	for _, kid := range b.Kids {
 		if kid != 0 {
-			at(s, kid).Refs++
+			At(s, kid).Refs++
 		}
 	}
 	return free + 1, api.OK
@@ -171,7 +172,7 @@ func Keep(s *api.Store, a int) api.Errno {
 	if e := checkThere(s, a); e != api.OK {
 		return e
 	}
-	at(s, a).Refs++
+	At(s, a).Refs++
 	return api.OK
 }
 
@@ -180,12 +181,12 @@ func Drop(s *api.Store, a int) api.Errno {
 	if e := checkThere(s, a); e != api.OK {
 		return e
 	}
-	if at(s, a).Refs == amongKids(s)[a-1] {
+	if At(s, a).Refs == amongKids(s)[a-1] {
 		return api.ErrHeld
 	}
 	var less func(a int)
 	less = func(a int) {
-		b := at(s, a)
+		b := At(s, a)
 		b.Refs--
 		if b.Refs > 0 {
 			return
