@@ -34,7 +34,7 @@ func free(n int) []api.Block { return make([]api.Block, n) }
 
 // sealed is what must stand in the leaf at place i, if b is there.
 func sealed(key, i int, b []byte) []byte {
-	out, _ := seal.Seal(key, i*api.Leaf, b)
+	out, _ := seal.Seal(key, i, b)
 	return out
 }
 
@@ -43,7 +43,7 @@ func sealed(key, i int, b []byte) []byte {
 func nest() api.Store {
 	return of(append([]api.Block{
 		leaf(1, 189, 150, 116, 25),
-		leaf(1, 30, 254, 113, 95),
+		leaf(1, 32, 112, 235, 225),
 		above(1, 1, 1, 2, 0, 0),
 		above(2, 2, 3, 0, 0, 0),
 		above(1, 3, 4, 0, 0, 0),
@@ -162,7 +162,7 @@ func TestCheck(t *testing.T) {
 	}
 }
 
-// A leaf is opened at the place of its bytes: the same leaf at another place is not the same bytes.
+// A leaf is sealed and opened at its own place among the leaves, not at that of its bytes.
 func TestLeavesAreSealedAtTheirPlace(t *testing.T) {
 	s, _ := store.New(4)
 	for _, c := range []struct {
@@ -171,9 +171,10 @@ func TestLeavesAreSealedAtTheirPlace(t *testing.T) {
 		want    []byte
 	}{
 		{7, 0, []byte("\x00\x00ab"), []byte{189, 150, 116, 25}},
-		{7, 4, []byte("c"), []byte{30, 254, 113, 95}},
-		{0, 28, []byte{1, 2, 3, 4}, []byte{16, 160, 107, 145}},
-		{1000, 255, []byte{1}, []byte{159, 197, 194, 17}},
+		{7, 4, []byte("c"), []byte{32, 112, 235, 225}},
+		{0, 28, []byte{1, 2, 3, 4}, []byte{27, 192, 187, 34}},
+		{1000, 255, []byte{1}, []byte{255, 227, 150, 40}},
+		{7, 4, []byte{1, 2, 3, 4}, []byte{190, 114, 238, 229}},
 	} {
 		got, f, e := file.Write(s, c.key, api.File{}, c.at, c.b)
 		if e != api.OK || f.Root != 4 || !bytes.Equal(got.Blocks[0].Bytes, c.want) {
@@ -576,7 +577,7 @@ func TestWhatIsMade(t *testing.T) {
 	got, f, e := file.Write(s, key, api.File{}, 2, []byte("abc"))
 	want := of(append([]api.Block{
 		leaf(1, 189, 150, 116, 25), {}, {}, {},
-		leaf(1, 30, 254, 113, 95), above(1, 1, 1, 5, 0, 0), above(1, 2, 6, 0, 0, 0), above(1, 3, 7, 0, 0, 0),
+		leaf(1, 32, 112, 235, 225), above(1, 1, 1, 5, 0, 0), above(1, 2, 6, 0, 0, 0), above(1, 3, 7, 0, 0, 0),
 	}, free(4)...)...)
 	if e != api.OK || f != (api.File{Root: 8, Size: 5}) || !store.Same(got, want) {
 		t.Fatalf("Write: %v, error %d, %v, want %v", f, e, got, want)
@@ -584,7 +585,7 @@ func TestWhatIsMade(t *testing.T) {
 	got, f, e = file.Cut(got, key, f, 3)
 	want = of(
 		leaf(1, 189, 150, 116, 25), leaf(1, 189, 150, 116, 183), api.Block{}, api.Block{},
-		leaf(1, 30, 254, 113, 95), above(1, 1, 1, 5, 0, 0), above(1, 2, 6, 0, 0, 0), above(1, 3, 7, 0, 0, 0),
+		leaf(1, 32, 112, 235, 225), above(1, 1, 1, 5, 0, 0), above(1, 2, 6, 0, 0, 0), above(1, 3, 7, 0, 0, 0),
 		api.Block{}, above(1, 1, 2, 0, 0, 0), above(1, 2, 10, 0, 0, 0), above(1, 3, 11, 0, 0, 0),
 	)
 	if e != api.OK || f != (api.File{Root: 12, Size: 3}) || !store.Same(got, want) {
