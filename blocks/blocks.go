@@ -184,23 +184,40 @@ func Drop(s *api.Store, a int) api.Errno {
 	if At(s, a).Refs == amongKids(s)[a-1] {
 		return api.ErrHeld
 	}
-	var less func(a int)
-	less = func(a int) {
-		b := At(s, a)
-		b.Refs--
-		if b.Refs > 0 {
-			return
-		}
-		kids := b.Kids
-		*b = api.Block{}
-		for _, kid := range kids {
-			if kid != 0 {
-				less(kid)
-			}
+	letGo(s, []int{a})
+	return api.OK
+}
+
+// Shift holds each of more once more, even above api.MaxRefs, and then each of less once less, and frees what nobody
+// holds then; 0 is nothing. Nothing is checked: the caller knows that s is right, that all of more are there, and that
+// each of less is held outside that often, so that what is above api.MaxRefs on the way is no error.
+func Shift(s *api.Store, more, less []int) {
+	for _, a := range more {
+		if a != 0 {
+			At(s, a).Refs++
 		}
 	}
-	less(a)
-	return api.OK
+	letGo(s, less)
+}
+
+func letGo(s *api.Store, l []int) {
+	var less func(l []int)
+	less = func(l []int) {
+		for _, a := range l {
+			if a == 0 {
+				continue
+			}
+			b := At(s, a)
+			b.Refs--
+			if b.Refs > 0 {
+				continue
+			}
+			kids := b.Kids
+			*b = api.Block{}
+			less(kids)
+		}
+	}
+	less(l)
 }
 
 func checkThere(s *api.Store, a int) api.Errno {

@@ -40,6 +40,29 @@ func TestInPlace(t *testing.T) {
 	}
 }
 
+func TestShift(t *testing.T) {
+	s := small()
+	blocks.Shift(&s, []int{0, 1, 2, 1}, []int{0, 1, 2, 1})
+	if !store.Same(s, small()) {
+		t.Errorf("of the same: %v", s)
+	}
+	// What is held once more first is not free in between, and may be above the most.
+	s.Blocks[1].Refs = api.MaxRefs
+	blocks.Shift(&s, []int{2, 2}, nil)
+	if s.Blocks[1].Refs != api.MaxRefs+2 {
+		t.Errorf("above the most: %v", s)
+	}
+	s = small()
+	blocks.Shift(&s, []int{1}, []int{2, 1})
+	if want := (api.Store{Blocks: []api.Block{{Refs: 1, Bytes: []byte{1, 2, 3, 4}}, {}}}); !store.Same(s, want) {
+		t.Errorf("of what is above: %v, want %v", s, want)
+	}
+	blocks.Shift(&s, nil, []int{0, 1})
+	if n, _ := store.Used(s); n != 0 {
+		t.Errorf("of all: %v", s)
+	}
+}
+
 func TestRefusedLeavesItAsItWas(t *testing.T) {
 	s := small()
 	if _, e := blocks.Make(&s, api.Block{Bytes: make([]byte, 4)}); e != api.ErrFull {
